@@ -6,7 +6,7 @@ import (
 	"wavelet/api"
 	"wavelet/bits"
 	"wavelet/layers"
-	"wavelet/passes"
+	"wavelet/passrule"
 	"wavelet/tier"
 )
 
@@ -97,7 +97,7 @@ func (r *reader) block(b *Band, k int) bool {
 	}
 	from := len(c.Passes)
 	to := from + r.number()
-	if to > passes.Total(c.Planes) {
+	if to > passrule.Total(c.Planes) {
 		return false
 	}
 	for r.Bit() == 1 {

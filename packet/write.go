@@ -15,18 +15,18 @@ type writer struct {
 }
 
 // Encode returns the header and the body of the packet of one layer.
-func Encode(l []*Band, style, count, layer int) (head, body []byte) {
-	if count > maxLayers {
+func Encode(l []*Band, style, layers, layer int) (head, body []byte) {
+	if layers > maxLayers {
 		return nil, nil
 	}
-	w := &writer{Writer: bits.NewWriter(), style: style, count: count, layer: layer}
+	w := &writer{Writer: bits.NewWriter(), style: style, count: layers, layer: layer}
 	if !w.anything(l) {
 		w.Bit(0)
 		return w.Bytes(), nil
 	}
 	w.Bit(1)
 	for b, k := range cells(l) {
-		b.number(count)
+		b.number(layers)
 		w.block(b, k)
 	}
 	return w.Bytes(), w.body

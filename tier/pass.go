@@ -4,7 +4,7 @@ import (
 	"wavelet/api"
 	"wavelet/ctx"
 	"wavelet/mq"
-	"wavelet/passes"
+	"wavelet/passrule"
 	"wavelet/raw"
 	"wavelet/scan"
 )
@@ -79,11 +79,11 @@ func code[S symbols](c *course, by S, k int) {
 	if c.style&api.Reset != 0 {
 		c.cx = mq.Fresh()
 	}
-	p := pass[S]{c, by, passes.Plane(c.planes, k), passes.Raw(c.style, k)}
-	switch passes.KindOf(k) {
-	case passes.Significance:
+	p := pass[S]{c, by, passrule.Plane(c.planes, k), passrule.Raw(c.style, k)}
+	switch passrule.KindOf(k) {
+	case passrule.Significance:
 		p.significance()
-	case passes.Refinement:
+	case passrule.Refinement:
 		p.refinement()
 	default:
 		p.cleanup()

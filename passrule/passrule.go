@@ -1,5 +1,5 @@
-// Package passes has the rules of chapter 8 for the passes of a code-block that the coding of blocks, the layers and the packets share: what a pass is, by its index, and where segments end.
-package passes
+// Package passrule has the rules of chapter 8 for the passes of a code-block that the coding of blocks, the layers and the packets share: what a pass is, by its index, and where segments end.
+package passrule
 
 import "wavelet/api"
 

@@ -1,4 +1,4 @@
-package passes
+package passrule
 
 import (
 	"math"
