@@ -62,6 +62,7 @@ func TestRead(t *testing.T) { // P2001
 		{"greatest long length", "00000001 61626364 7FFFFFFFFFFFFFFF 01", nil, api.ErrCut},
 		{"most significant bit", "00000001 61626364 8000000000000000 01", nil, api.ErrCut},
 		{"all bits", "00000001 61626364 FFFFFFFFFFFFFFFF 01", nil, api.ErrCut},
+		{"one byte behind", "00000008 61626364 00", nil, api.ErrCut},
 		{"second cut", "00000008 61626364 00000009 65666768", nil, api.ErrCut},
 		{"second bad before third cut", "00000008 61626364 00000003 65666768 00", nil, api.ErrBox},
 	} {

@@ -104,6 +104,13 @@ func TestReaderKeepsFirstError(t *testing.T) { // P101
 	}
 }
 
+func TestOneByteLeftIsMore(t *testing.T) { // P101
+	r := New([]byte{1, 2})
+	if r.Get(1); r.Left() != 1 || r.End() != api.ErrMore {
+		t.Errorf("%d left, %v", r.Left(), r.End())
+	}
+}
+
 func TestErrorReadsNothing(t *testing.T) { // P101, P7
 	a, b := New([]byte{1, 2}), New([]byte{1, 2})
 	a.Get(3)

@@ -190,6 +190,7 @@ func TestParseOfOtherHeaders(t *testing.T) { // P1702
 		{"FF51 of another profile", begin + strings.Replace(sizH, "0029 0000", "0029 0001", 1) + codH + qcdH + sotH, api.ErrBad, ""},
 		{"tiles moved", begin + strings.Replace(sizH, "00000000 00000000", "00000001 00000000", 1) + codH + qcdH + sotH, api.ErrBad, ""},
 		{"tiles moved down", begin + strings.Replace(sizH, "00000000 00000000", "00000000 00000001", 1) + codH + qcdH + sotH, api.ErrBad, ""},
+		{"tiles moved both ways", begin + strings.Replace(sizH, "00000000 00000000", "00000001 00000001", 1) + codH + qcdH + sotH, api.ErrBad, ""},
 		{"depth 17", begin + strings.Replace(sizH, "0001 07", "0001 10", 1) + codH + qcdH + sotH, api.ErrArg, ""},
 		{"step 0", begin + strings.Replace(sizH, "07 01 01", "07 00 01", 1) + codH + qcdH + sotH, api.ErrArg, ""},
 		{"no precincts said", begin + sizH + strings.Replace(codH, "000E 01", "000E 00", 1) + qcdH + sotH, api.ErrBad, ""},

@@ -236,3 +236,191 @@ func TestFlushIsItsOwn(t *testing.T) { // P2, P7
 		t.Error("two Encoders share bytes")
 	}
 }
+
+// wordsEncoder is the encoder by the chapter's words, over plain numbers.
+type wordsEncoder struct {
+	a, c, ct int
+	out      []int
+}
+
+func (e *wordsEncoder) put() {
+	last := len(e.out) - 1
+	if e.out[last] != 255 && e.c >= 0x8000000 {
+		e.out[last]++
+		e.c -= 0x8000000
+	}
+	if e.out[last] == 255 {
+		e.out = append(e.out, e.c/(1<<20)%256)
+		e.c %= 1 << 20
+		e.ct = 7
+	} else {
+		e.out = append(e.out, e.c/(1<<19)%256)
+		e.c %= 1 << 19
+		e.ct = 8
+	}
+}
+
+func (e *wordsEncoder) encode(cx *Ctx, k, bit int) {
+	s := states.At(cx[k].I)
+	e.a -= s.Qe
+	if bit == cx[k].Mps {
+		if e.a >= 0x8000 {
+			e.c += s.Qe
+			return
+		}
+		if e.a < s.Qe {
+			e.a = s.Qe
+		} else {
+			e.c += s.Qe
+		}
+		cx[k].I = s.Mps
+	} else {
+		if e.a < s.Qe {
+			e.c += s.Qe
+		} else {
+			e.a = s.Qe
+		}
+		if s.Swap {
+			cx[k].Mps = 1 - cx[k].Mps
+		}
+		cx[k].I = s.Lps
+	}
+	for again := true; again; again = e.a < 0x8000 {
+		e.a, e.c, e.ct = 2*e.a, 2*e.c, e.ct-1
+		if e.ct == 0 {
+			e.put()
+		}
+	}
+}
+
+func (e *wordsEncoder) flush() []byte {
+	t := e.c + e.a
+	e.c |= 65535
+	if e.c >= t {
+		e.c -= 0x8000
+	}
+	for range 2 {
+		e.c <<= e.ct
+		e.put()
+	}
+	var b []byte
+	for _, x := range e.out[1:] {
+		b = append(b, byte(x))
+	}
+	if b[len(b)-1] == 255 {
+		b = b[:len(b)-1]
+	}
+	return b
+}
+
+func TestEncodeByTheWords(t *testing.T) { // P402
+	if got := NewEncoder().Flush(); !slices.Equal(got, []byte{0xFF, 0x7F}) {
+		t.Errorf("no bits: %x", got)
+	}
+	for seed := range 400 {
+		e, cx := NewEncoder(), Fresh()
+		w, cy := &wordsEncoder{0x8000, 0, 12, []int{0}}, Fresh()
+		for i, s := range symbols(seed, seed*13%2500) {
+			e.Encode(&cx, s.k, s.bit)
+			w.encode(&cy, s.k, s.bit)
+			if cx != cy || e.Out() != len(w.out)-1 {
+				t.Fatalf("seed %d: other ways behind symbol %d", seed, i)
+			}
+		}
+		if got, want := e.Flush(), w.flush(); !slices.Equal(got, want) {
+			t.Fatalf("seed %d: %x, want %x", seed, got, want)
+		}
+	}
+}
+
+// wordsDecoder is the decoder by the chapter's words.
+type wordsDecoder struct {
+	b     []byte
+	at    int
+	a, ct int
+	c     int64
+}
+
+func (d *wordsDecoder) byteAt(i int) int64 {
+	if i < len(d.b) {
+		return int64(d.b[i])
+	}
+	return 255
+}
+
+func (d *wordsDecoder) take() {
+	current, next := d.byteAt(d.at), d.byteAt(d.at+1)
+	if current == 255 && next > 0x8F {
+		d.c += 0xFF00
+		d.ct = 8
+		return
+	}
+	d.at++
+	if current == 255 {
+		d.c += next << 9
+		d.ct = 7
+	} else {
+		d.c += next << 8
+		d.ct = 8
+	}
+}
+
+func newWordsDecoder(b []byte) *wordsDecoder {
+	d := &wordsDecoder{b: b}
+	d.c = d.byteAt(0) << 16
+	d.take()
+	d.c <<= 7
+	d.ct -= 7
+	d.a = 0x8000
+	return d
+}
+
+func (d *wordsDecoder) decode(cx *Ctx, k int) int {
+	s := states.At(cx[k].I)
+	d.a -= s.Qe
+	var likely bool
+	if d.c>>16 < int64(s.Qe) {
+		likely = d.a < s.Qe
+		d.a = s.Qe
+	} else {
+		d.c -= int64(s.Qe) << 16
+		if d.a >= 0x8000 {
+			return cx[k].Mps
+		}
+		likely = d.a >= s.Qe
+	}
+	for again := true; again; again = d.a < 0x8000 {
+		if d.ct == 0 {
+			d.take()
+		}
+		d.a, d.c, d.ct = 2*d.a, 2*d.c, d.ct-1
+	}
+	bit := cx[k].Mps
+	if likely {
+		cx[k].I = s.Mps
+		return bit
+	}
+	if s.Swap {
+		cx[k].Mps = 1 - bit
+	}
+	cx[k].I = s.Lps
+	return 1 - bit
+}
+
+func TestDecodeByTheWords(t *testing.T) { // P403
+	for seed := range 1500 {
+		n := noise(seed)
+		b := make([]byte, seed%40)
+		for i := range b {
+			b[i] = []byte{255, 0x8F, 0x90, 0x7F, 0, byte(n.next(256)), byte(n.next(256))}[n.next(3+seed%5)]
+		}
+		d, cx := NewDecoder(b), Fresh()
+		w, cy := newWordsDecoder(b), Fresh()
+		for i := range 600 {
+			k := n.next(19)
+			if got, want := d.Decode(&cx, k), w.decode(&cy, k); got != want || cx != cy {
+				t.Fatalf("%x: bit %d is %d", b, i, got)
+			}
+		}
+	}
+}

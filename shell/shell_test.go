@@ -270,3 +270,9 @@ func TestMoreLines(t *testing.T) { // P2203
 		t.Errorf("%q, %q", got, want)
 	}
 }
+
+func TestFirstParams(t *testing.T) { // P2202
+	m, _ := sketch.Draw(64, 64, 0, 0, 1, 8, 3)
+	b, _ := codec.Encode(m, api.Params{Tx: 64, Ty: 64, Levels: 2, Cbw: 3, Cbh: 3, Prec: 15, Layers: 1}, nil)
+	run(t, "draw 64 64 0 0 1 8 3\nencode \"\"\npackets\ntiles", "ok\nok "+strconv.Itoa(len(b))+"\nok 3\nok 1\n")
+}

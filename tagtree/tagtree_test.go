@@ -210,3 +210,16 @@ func TestZerosBehindTheEnd(t *testing.T) { // P1302: as many zeros as the bound 
 		t.Errorf("%d", long.Known(0))
 	}
 }
+
+func TestTwoLeaves(t *testing.T) { // P1301, P1302: a node stands above them, whichever way they lie
+	for _, tree := range []*Tree{New(2, 1), New(1, 2)} {
+		tree.Set(0, 1)
+		tree.Set(1, 2)
+		if got := text(func(w *bits.Writer) { tree.Encode(w, 1, 9) }); got != "0101" {
+			t.Errorf("%s", got)
+		}
+		if got := text(func(w *bits.Writer) { tree.Encode(w, 0, 9) }); got != "1" {
+			t.Errorf("%s", got)
+		}
+	}
+}

@@ -240,3 +240,14 @@ func TestArgumentsStay(t *testing.T) { // P2
 		t.Error("an argument was changed")
 	}
 }
+
+func TestCut(t *testing.T) { // P803
+	for _, x := range []struct {
+		segment []byte
+		n, want int
+	}{{nil, 0, 0}, {nil, 5, 0}, {[]byte{255}, 0, 0}, {[]byte{255, 1}, 1, 0}, {[]byte{255, 1}, 2, 2}, {[]byte{1, 255, 2}, 2, 1}, {[]byte{1, 2}, 9, 2}} {
+		if got := cut(x.segment, x.n); got != x.want {
+			t.Errorf("cut(%v, %d) = %d", x.segment, x.n, got)
+		}
+	}
+}
