@@ -1,6 +1,8 @@
 package shell
 
 import (
+	"strings"
+
 	"wavelet/api"
 	"wavelet/boxes"
 	"wavelet/canvas"
@@ -25,15 +27,24 @@ func newSession() *session {
 
 // commands returns the commands by their names.
 func (s *session) commands() map[string]command {
+	p := &s.params
 	return map[string]command{
-		"draw":    {"n n n n n n n", s.draw},
-		"tile":    {"n n levels n block n n prec n style n order n layers n turn n marks n n", s.tile},
+		"draw":    {"nnnnnnn", s.draw},
+		"tile":    setter(itself, &p.Tx, &p.Ty),
+		"levels":  setter(itself, &p.Levels),
+		"block":   setter(itself, &p.Cbw, &p.Cbh),
+		"prec":    setter(itself, &p.Prec),
+		"style":   setter(itself, &p.Style),
+		"order":   setter(itself, &p.Order),
+		"layers":  setter(itself, &p.Layers),
+		"turn":    setter(truth, &p.Rct),
+		"marks":   setter(truth, &p.Sop, &p.Eph),
 		"encode":  {"T", s.encode},
-		"decode":  {"n n", s.decode},
+		"decode":  {"nn", s.decode},
 		"wrap":    {"", s.wrap},
 		"open":    {"", s.open},
 		"walk":    {"", s.walk},
-		"byte":    {"n n", s.setByte},
+		"byte":    {"nn", s.setByte},
 		"cut":     {"n", s.cut},
 		"tiles":   {"", s.tiles},
 		"packets": {"", s.packets},
@@ -41,27 +52,27 @@ func (s *session) commands() map[string]command {
 	}
 }
 
+// setter returns the command that sets each of some params to what its number means.
+func setter[T any](meaning func(n int) T, places ...*T) command {
+	set := func(a arguments) string {
+		for i, place := range places {
+			*place = meaning(a.n[i])
+		}
+		return api.OK.Error()
+	}
+	return command{strings.Repeat("n", len(places)), set}
+}
+
+func itself(n int) int { return n }
+
+func truth(n int) bool { return n != 0 }
+
 func (s *session) draw(a arguments) string {
 	m, e := sketch.Draw(a.n[0], a.n[1], a.n[2], a.n[3], a.n[4], a.n[5], a.n[6])
 	if e == api.OK {
 		s.picture = m
 	}
 	return e.Error()
-}
-
-func (s *session) tile(a arguments) string {
-	s.params = api.Params{
-		Tx: a.n[0], Ty: a.n[1],
-		Levels: a.n[2],
-		Cbw:    a.n[3], Cbh: a.n[4],
-		Prec:   a.n[5],
-		Style:  a.n[6],
-		Order:  a.n[7],
-		Layers: a.n[8],
-		Rct:    a.n[9] != 0,
-		Sop:    a.n[10] != 0, Eph: a.n[11] != 0,
-	}
-	return api.OK.Error()
 }
 
 func (s *session) encode(a arguments) string {

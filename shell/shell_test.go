@@ -131,30 +131,102 @@ func TestNumbers(t *testing.T) { // P2202
 	}
 }
 
+// forms are what stands behind the names of the commands: 1 for each number, x for each word.
+var forms = map[string]string{
+	"draw": "1 1 1 1 1 1 1", "tile": "1 1", "levels": "1", "block": "1 1", "prec": "1", "style": "1", "order": "1", "layers": "1", "turn": "1", "marks": "1 1",
+	"encode": "x", "decode": "1 1", "wrap": "", "open": "", "walk": "", "byte": "1 1", "cut": "1", "tiles": "", "packets": "", "sum": "",
+}
+
 func TestForms(t *testing.T) { // P2202
-	const right = "tile 4 4 levels 1 block 2 2 prec 15 style 0 order 0 layers 1 turn 0 marks 0 0"
-	run(t, right+"\ntiles", "ok\nok 4\n")
-	words := strings.Fields(right)
-	for i := range words {
-		wrong := slices.Clone(words)
-		wrong[i] = "x"
-		run(t, strings.Join(wrong, " ")+"\ntiles", "word\nok 1\n")
-		run(t, strings.Join(slices.Delete(slices.Clone(words), i, i+1), " ")+"\ntiles", "word\nok 1\n")
+	for name, form := range forms {
+		words := append([]string{name}, strings.Fields(form)...)
+		if got := Run(strings.Join(words, " ")); got == "word\n" {
+			t.Errorf("%q: %q", words, got)
+		}
+		run(t, strings.Join(append(slices.Clone(words), "1"), " "), "word\n")
+		run(t, strings.ToUpper(name)+" "+form, "word\n")
+		for i := 1; i < len(words); i++ {
+			run(t, strings.Join(slices.Delete(slices.Clone(words), i, i+1), " "), "word\n")
+			if words[i] == "x" {
+				continue
+			}
+			for _, number := range []string{"x", "-0", "01", "1234567890", "\"\"", "levels"} {
+				wrong := slices.Clone(words)
+				wrong[i] = number
+				run(t, strings.Join(wrong, " "), "word\n")
+			}
+		}
 	}
-	for _, line := range []string{right + " 1", "draw 1 1 0 0 1 8", "draw 1 1 0 0 1 8 0 0", "draw 1 1 0 0 1 8 x", "encode", "encode a b", "decode", "decode 1", "decode 1 0 0", "decode a 0", "wrap 1", "open 1", "walk 1", "byte 1", "byte 1 2 3", "cut", "cut 1 1", "tiles 0", "packets 0", "sum 0", "Sum", "encode \"a", "level"} {
+	for _, line := range []string{"level 1", "mark 1 1", "encode \"a", "ok", "\"\""} {
 		run(t, line, "word\n")
 	}
 }
 
-func TestTileSetsAllParams(t *testing.T) { // P2202
+func TestCommandsOnOneLine(t *testing.T) { // P2202, P2203
+	for _, line := range []string{
+		"tile 4 4 levels 1 block 2 2 prec 15 style 0 order 0 layers 1 turn 0 marks 0 0",
+		"tile 4 4 levels 1", "levels 1 block 2 2", "prec 1 style 0", "turn 0 marks 0 0", "tile 4 4 4 4", "layers 2 turn 0", "wrap open", "encode x walk",
+	} {
+		run(t, line+"\ntiles\npackets\ndecode 1 0", "word\nok 1\nok 3\nbad\n")
+	}
+}
+
+func TestParamsOneByOne(t *testing.T) { // P2202
+	first := api.Params{Tx: 64, Ty: 64, Levels: 2, Cbw: 3, Cbh: 3, Prec: 15, Layers: 1}
+	all := api.Params{Tx: -1, Ty: -2, Levels: -3, Cbw: -4, Cbh: -5, Prec: -6, Style: -7, Order: -8, Layers: -9, Rct: true, Sop: true, Eph: true}
+	for _, begin := range []api.Params{first, all} {
+		for line, set := range map[string]func(p *api.Params){
+			"tile 8 9":               func(p *api.Params) { p.Tx, p.Ty = 8, 9 },
+			"tile 0 -999999999":      func(p *api.Params) { p.Tx, p.Ty = 0, -999999999 },
+			"levels 5":               func(p *api.Params) { p.Levels = 5 },
+			"levels 0":               func(p *api.Params) { p.Levels = 0 },
+			"block 4 5":              func(p *api.Params) { p.Cbw, p.Cbh = 4, 5 },
+			"prec 999999999":         func(p *api.Params) { p.Prec = 999999999 },
+			"style 63":               func(p *api.Params) { p.Style = 63 },
+			"order 4":                func(p *api.Params) { p.Order = 4 },
+			"layers 8":               func(p *api.Params) { p.Layers = 8 },
+			"turn 1":                 func(p *api.Params) { p.Rct = true },
+			"turn -5":                func(p *api.Params) { p.Rct = true },
+			"turn 0":                 func(p *api.Params) { p.Rct = false },
+			"marks 0 2":              func(p *api.Params) { p.Sop, p.Eph = false, true },
+			"marks -1 0":             func(p *api.Params) { p.Sop, p.Eph = true, false },
+			"marks 0 0":              func(p *api.Params) { p.Sop, p.Eph = false, false },
+			"marks 1 256":            func(p *api.Params) { p.Sop, p.Eph = true, true },
+			"layers x":               func(p *api.Params) {},
+			"tile 1 x":               func(p *api.Params) {},
+			"marks 1 -0":             func(p *api.Params) {},
+			"order 3 # layers 4":     func(p *api.Params) { p.Order = 3 },
+			" \"order\"\t\"\\x32\" ": func(p *api.Params) { p.Order = 2 },
+		} {
+			s := newSession()
+			s.params = begin
+			want := begin
+			set(&want)
+			if answer(s.commands(), line); s.params != want {
+				t.Errorf("%q: %v, want %v", line, s.params, want)
+			}
+		}
+	}
+}
+
+func TestParamsAreUsed(t *testing.T) { // P2202
+	run(t, "tile 8 8\nlevels 0\nlayers 1\ntiles\npackets\n", "ok\nok\nok\nok 1\nok 1\n")
+	for line, e := range map[string]string{
+		"levels 6": "arg", "block 7 3": "arg", "prec 0": "arg", "style 64": "arg", "order 5": "arg", "layers 0": "arg", "tile 0 4": "arg", "turn 1": "kind", "tile 1 1": "limit",
+	} {
+		run(t, "encode x\n"+line+"\nencode x\ntiles\npackets\ndecode 1 0\n", "ok 126\nok\n"+e+"\n"+e+"\n"+e+"\nok 64 519466 1\n")
+	}
+}
+
+func TestStreamsOfParams(t *testing.T) { // P2202
 	m, _ := sketch.Draw(30, 20, 3, 2, 3, 8, 3)
 	for i, x := range []struct {
-		line string
-		p    api.Params
+		lines string
+		p     api.Params
 	}{
-		{"tile 16 17 levels 3 block 4 5 prec 6 style 42 order 3 layers 7 turn 1 marks 0 0", api.Params{Tx: 16, Ty: 17, Levels: 3, Cbw: 4, Cbh: 5, Prec: 6, Style: 42, Order: 3, Layers: 7, Rct: true}},
-		{"tile 60 61 levels 0 block 2 6 prec 1 style 21 order 4 layers 1 turn 0 marks -5 0", api.Params{Tx: 60, Ty: 61, Cbw: 2, Cbh: 6, Prec: 1, Style: 21, Order: 4, Layers: 1, Sop: true}},
-		{"tile 60 61 levels 5 block 6 2 prec 15 style 63 order 1 layers 8 turn -1 marks 0 2", api.Params{Tx: 60, Ty: 61, Levels: 5, Cbw: 6, Cbh: 2, Prec: 15, Style: 63, Order: 1, Layers: 8, Rct: true, Eph: true}},
+		{"tile 16 17\nlevels 3\nblock 4 5\nprec 6\nstyle 42\norder 3\nlayers 7\nturn 1\nmarks 0 0", api.Params{Tx: 16, Ty: 17, Levels: 3, Cbw: 4, Cbh: 5, Prec: 6, Style: 42, Order: 3, Layers: 7, Rct: true}},
+		{"marks -5 0\nlayers 1\norder 4\nstyle 21\nprec 1\nblock 2 6\nlevels 0\ntile 60 61", api.Params{Tx: 60, Ty: 61, Cbw: 2, Cbh: 6, Prec: 1, Style: 21, Order: 4, Layers: 1, Sop: true}},
+		{"tile 60 61\nlevels 5\nblock 6 2\nstyle 63\norder 1\nlayers 8\nturn -1\nmarks 0 2", api.Params{Tx: 60, Ty: 61, Levels: 5, Cbw: 6, Cbh: 2, Prec: 15, Style: 63, Order: 1, Layers: 8, Rct: true, Eph: true}},
 	} {
 		b, e := codec.Encode(m, x.p, []byte("\xff"))
 		if e != api.OK {
@@ -169,9 +241,10 @@ func TestTileSetsAllParams(t *testing.T) { // P2202
 		if codec.Same(low, m) {
 			same = "1"
 		}
-		run(t, "draw 30 20 3 2 3 8 3\n"+x.line+"\nencode \"\\xff\"\ndecode 1 "+strconv.Itoa(x.p.Levels)+"\n", "ok\nok\nok "+strconv.Itoa(len(b))+"\nok "+strconv.Itoa(n)+" "+strconv.Itoa(sketch.Sum(low))+" "+same+"\n")
+		oks := strings.Repeat("ok\n", 2+strings.Count(x.lines, "\n"))
+		run(t, "draw 30 20 3 2 3 8 3\n"+x.lines+"\nencode \"\\xff\"\ndecode 1 "+strconv.Itoa(x.p.Levels)+"\n", oks+"ok "+strconv.Itoa(len(b))+"\nok "+strconv.Itoa(n)+" "+strconv.Itoa(sketch.Sum(low))+" "+same+"\n")
 		if t.Failed() {
-			t.Fatalf("line %d", i)
+			t.Fatalf("lines %d", i)
 		}
 	}
 }
@@ -181,7 +254,7 @@ func TestErrorsChangeNothing(t *testing.T) { // P2202, P2203
 	sum := strconv.Itoa(sketch.Sum(m))
 	b, _ := codec.Encode(m, api.Params{Tx: 64, Ty: 64, Levels: 2, Cbw: 3, Cbh: 3, Prec: 15, Layers: 1}, nil)
 	n := strconv.Itoa(len(b))
-	run(t, "encode \"\"\ndraw 65 1 0 0 1 8 0\nsum\nopen\nencode "+strings.Repeat("x", 1001)+"\ntile 0 0 levels 9 block 1 1 prec 0 style 0 order 0 layers 0 turn 0 marks 0 0\nencode y\ntiles\npackets\nword\ndecode 0 0\ndecode 1 -1\ndecode 1 3\ncut "+n+"\ndecode 1 0",
+	run(t, "encode \"\"\ndraw 65 1 0 0 1 8 0\nsum\nopen\nencode "+strings.Repeat("x", 1001)+"\nlevels 9\nencode y\ntiles\npackets\nword\ndecode 0 0\ndecode 1 -1\ndecode 1 3\ncut "+n+"\ndecode 1 0",
 		"ok "+n+"\narg\nok "+sum+"\ncut\nlong\nok\narg\narg\narg\nword\narg\narg\narg\nok\nok 64 "+sum+" 1\n")
 }
 
@@ -201,7 +274,7 @@ func TestAnotherPictureDiffers(t *testing.T) { // P2202
 }
 
 func TestPackets(t *testing.T) { // P2202
-	run(t, "draw 64 64 0 0 4 8 3\ntile 32 32 levels 5 block 2 2 prec 15 style 0 order 2 layers 8 turn 0 marks 0 0\ntiles\npackets\ndraw 64 64 0 0 4 8 4\ntile 32 32 levels 5 block 2 2 prec 15 style 0 order 2 layers 8 turn 1 marks 0 0\ntiles\npackets", "ok\nok\nok 4\nok 768\nok\nok\nkind\nkind\n")
+	run(t, "draw 64 64 0 0 4 8 3\ntile 32 32\nlevels 5\nlayers 8\ntiles\npackets\ndraw 64 64 0 0 4 8 4\nturn 1\ntiles\npackets", "ok\nok\nok\nok\nok 4\nok 768\nok\nok\nkind\nkind\n")
 }
 
 func TestLongScripts(t *testing.T) { // P2202
@@ -243,14 +316,14 @@ func TestLongAnswers(t *testing.T) { // P2202
 
 func TestRunsStandAlone(t *testing.T) { // P2202, P3
 	first := Run("tiles\nsum\nwalk")
-	Run("draw 64 64 0 0 4 16 3\nencode x\ntile 32 32 levels 1 block 2 2 prec 15 style 0 order 0 layers 1 turn 0 marks 0 0\n")
+	Run("draw 64 64 0 0 4 16 3\nencode x\ntile 32 32\nlevels 1\nblock 2 2\n")
 	if again := Run("tiles\nsum\nwalk"); again != first {
 		t.Errorf("%q, %q", first, again)
 	}
 }
 
 func TestMoreLines(t *testing.T) { // P2203
-	lines := []string{"draw 20 20 0 0 3 8 3", "encode a", "", "decode 1 0", "what", "# no", "byte 90 7", "decode 1 1", "wrap", "open", "cut 50", "walk", "sum", "packets", "encode b", "walk"}
+	lines := []string{"draw 20 20 0 0 3 8 3", "encode a", "", "decode 1 0", "what", "# no", "byte 90 7", "decode 1 1", "wrap", "open", "cut 50", "walk", "sum", "levels 1", "packets", "tile 9 9 levels 2", "layers 4", "packets", "encode b", "walk"}
 	whole := strings.Split(Run(strings.Join(lines, "\n")), "\n")
 	for i := range lines {
 		part := strings.Split(Run(strings.Join(lines[:i+1], "\n")), "\n")
@@ -260,7 +333,7 @@ func TestMoreLines(t *testing.T) { // P2203
 	}
 	var bare []string
 	for _, line := range lines {
-		if line != "" && line != "what" && line != "# no" {
+		if line != "" && line != "what" && line != "# no" && line != "tile 9 9 levels 2" {
 			bare = append(bare, line)
 		}
 	}
